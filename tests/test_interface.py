@@ -1,0 +1,63 @@
+"""The names of the interface: each is defined in its own file, with its own methods and arguments."""
+
+import importlib
+import inspect
+import unittest
+
+# Module, class, the arguments of its creation, its fields, and its methods with their arguments.
+CLASSES = [
+    ("pool", "Pool", ["many"], [], {
+        "free": [], "owner": ["buffer"], "held": ["owner"], "acquire": ["owner"], "release": ["buffer"],
+        "may_acquire": ["owner", "owners"]}),
+    ("queues", "ReceiveQueue", ["capacity"], ["capacity"], {
+        "arrive": ["byte", "tick"], "first": [], "take": [], "oldest_tick": [], "bytes_held": [],
+        "contents": []}),
+    ("queues", "TransmitQueue", ["capacity"], ["capacity"], {
+        "put": ["byte"], "take": [], "space": [], "contents": []}),
+    ("lines", "Lines", ["many"], [], {
+        "raise_line": ["line"], "clear_line": ["line"], "mask": ["line"], "unmask": ["line"],
+        "is_pending": ["line"], "is_masked": ["line"], "candidates": []}),
+    ("slots", "SlotRing", ["slots"], [], {
+        "can_arm": [], "arm": ["buffer"], "open_slot": [], "open_bytes": [], "open_count": [],
+        "add": ["byte"], "close": ["lost"], "oldest": [], "reap": [], "filled_slots": [], "buffers": []}),
+]
+FUNCTIONS = [
+    ("lines", "wakes", ["held", "oldest", "now", "count", "wait"]),
+]
+
+
+def found_in(module, name):
+    return getattr(importlib.import_module("tickrings." + module), name)
+
+
+def arguments(function):
+    return list(inspect.signature(function).parameters)
+
+
+class InterfaceTest(unittest.TestCase):
+    def test_every_name_is_defined_in_its_own_file(self):
+        for module, name, *_ in CLASSES + FUNCTIONS:
+            self.assertEqual(found_in(module, name).__module__, "tickrings." + module, name)
+
+    def test_every_method_stands_in_the_class_itself(self):
+        for module, name, _, _, methods in CLASSES:
+            for method in methods:
+                self.assertIn(method, vars(found_in(module, name)), name)
+
+    def test_the_arguments_have_their_names(self):
+        for module, name, made_with, _, methods in CLASSES:
+            self.assertEqual(arguments(found_in(module, name)), made_with, name)
+            for method, wanted in methods.items():
+                self.assertEqual(arguments(getattr(found_in(module, name), method)), ["self"] + wanted, method)
+        for module, name, wanted in FUNCTIONS:
+            self.assertEqual(arguments(found_in(module, name)), wanted, name)
+
+    def test_the_fields_are_set_when_the_object_is_created(self):
+        for module, name, made_with, fields, _ in CLASSES:
+            made = found_in(module, name)(*range(1, len(made_with) + 1))
+            for field in fields:
+                self.assertIn(field, vars(made), name)
+
+
+if __name__ == "__main__":
+    unittest.main()
