@@ -20,9 +20,17 @@ CLASSES = [
     ("slots", "SlotRing", ["slots"], [], {
         "can_arm": [], "arm": ["buffer"], "open_slot": [], "open_bytes": [], "open_count": [],
         "add": ["byte"], "close": ["lost"], "oldest": [], "reap": [], "filled_slots": [], "buffers": []}),
+    ("streams", "ReadStream", ["room"], ["room"], {
+        "space": [], "append": ["items"], "read": ["n"], "contents": []}),
+    ("streams", "WriteStream", ["room"], ["room"], {
+        "write": ["data"], "take": ["n"], "held": [], "contents": []}),
+    ("budgets", "Budgets", ["amounts"], [], {"left": ["which"], "charge": ["which"], "refill": []}),
+    ("receiving", "Receiver", ["queue", "ring", "size", "idle"], ["queue", "ring", "size", "idle", "latest"], {
+        "can_step": [], "step": ["now"], "close_idle": ["now"]}),
 ]
 FUNCTIONS = [
     ("lines", "wakes", ["held", "oldest", "now", "count", "wait"]),
+    ("work", "choice", ["pending", "masked", "left", "able", "jobs_left", "turn", "able_jobs"]),
 ]
 
 
@@ -54,7 +62,8 @@ class InterfaceTest(unittest.TestCase):
 
     def test_the_fields_are_set_when_the_object_is_created(self):
         for module, name, made_with, fields, _ in CLASSES:
-            made = found_in(module, name)(*range(1, len(made_with) + 1))
+            given = [[3] if argument == "amounts" else 3 for argument in made_with]
+            made = found_in(module, name)(*given)
             for field in fields:
                 self.assertIn(field, vars(made), name)
 
