@@ -4,6 +4,8 @@ import importlib
 import inspect
 import unittest
 
+from tickrings.config import Config, Settings
+
 # Module, class, the arguments of its creation, its fields, and its methods with their arguments.
 CLASSES = [
     ("pool", "Pool", ["many"], [], {
@@ -27,11 +29,24 @@ CLASSES = [
     ("budgets", "Budgets", ["amounts"], [], {"left": ["which"], "charge": ["which"], "refill": []}),
     ("receiving", "Receiver", ["queue", "ring", "size", "idle"], ["queue", "ring", "size", "idle", "latest"], {
         "can_step": [], "step": ["now"], "close_idle": ["now"]}),
+    ("sending", "Sender", ["queue", "ring", "pool"], ["queue", "ring", "pool", "moved"], {
+        "can_step": [], "step": [], "waiting": []}),
+    ("device", "Device", ["index", "settings", "size", "pool"], [
+        "index", "settings", "incoming", "outgoing", "receive_ring", "transmit_ring", "reading", "writing",
+        "receiver", "sender"], {
+        "receive_owner": [], "transmit_owner": [], "inbound": [], "outbound": []}),
+    ("runtime", "Runtime", ["config"], [
+        "config", "tick", "turn", "pool", "devices", "lines", "budgets", "events"], {"step": ["commands"]}),
 ]
 FUNCTIONS = [
     ("lines", "wakes", ["held", "oldest", "now", "count", "wait"]),
     ("work", "choice", ["pending", "masked", "left", "able", "jobs_left", "turn", "able_jobs"]),
+    ("jobs", "can_work", ["devices", "pool", "owners", "job"]),
+    ("jobs", "perform", ["devices", "pool", "size", "job"]),
+    ("runtime", "run", ["config", "schedule"]),
 ]
+# What the arguments are given that are no plain numbers.
+GIVEN = {"amounts": [3], "settings": Settings(), "config": Config(devices=[Settings()])}
 
 
 def found_in(module, name):
@@ -62,7 +77,7 @@ class InterfaceTest(unittest.TestCase):
 
     def test_the_fields_are_set_when_the_object_is_created(self):
         for module, name, made_with, fields, _ in CLASSES:
-            given = [[3] if argument == "amounts" else 3 for argument in made_with]
+            given = [GIVEN.get(argument, 3) for argument in made_with]
             made = found_in(module, name)(*given)
             for field in fields:
                 self.assertIn(field, vars(made), name)

@@ -21,6 +21,13 @@ def joined(mark, other):
     return lost_mark(lost_by(mark) + lost_by(other))
 
 
+def with_mark(data, lost):
+    """Return the list of some bytes and of the mark behind them, if any bytes were lost there."""
+    if lost == 0:
+        return list(data)
+    return data + [lost_mark(lost)]
+
+
 def bytes_among(items):
     """Return how many of the items are bytes."""
     return len([item for item in items if not is_mark(item)])
