@@ -37,6 +37,7 @@ CLASSES = [
         "receive_owner": [], "transmit_owner": [], "inbound": [], "outbound": []}),
     ("runtime", "Runtime", ["config"], [
         "config", "tick", "turn", "pool", "devices", "lines", "budgets", "events"], {"step": ["commands"]}),
+    ("judging", "Model", ["config"], [], {"accept": ["event"], "rest_of_tick": []}),
 ]
 FUNCTIONS = [
     ("lines", "wakes", ["held", "oldest", "now", "count", "wait"]),
@@ -44,6 +45,14 @@ FUNCTIONS = [
     ("jobs", "can_work", ["devices", "pool", "owners", "job"]),
     ("jobs", "perform", ["devices", "pool", "size", "job"]),
     ("runtime", "run", ["config", "schedule"]),
+    ("judging", "first_fault", ["config", "events"]),
+    ("bounds", "steps_bound", ["config"]),
+    ("bounds", "drain_bound", ["config"]),
+    ("console", "perform_script", ["text"]),
+    ("console", "format_event", ["event"]),
+    ("rates", "admits", ["config", "rates"]),
+    ("rates", "warm_up", ["config"]),
+    ("rates", "latency", ["config", "at"]),
 ]
 # What the arguments are given that are no plain numbers.
 GIVEN = {"amounts": [3], "settings": Settings(), "config": Config(devices=[Settings()])}

@@ -3,6 +3,7 @@
 import unittest
 
 from tickrings import numbering
+from tickrings.config import Config, Settings
 
 
 class NumberingTest(unittest.TestCase):
@@ -25,6 +26,15 @@ class NumberingTest(unittest.TestCase):
             self.assertEqual(numbering.all_numbers(many), list(range(2 * many)))
             self.assertEqual(numbering.all_jobs(many), list(range(3 * many)))
             self.assertEqual(numbering.job_budget(many), 2 * many)
+
+    def test_the_amounts_of_the_budgets(self):
+        devices = [Settings(receive=2, transmit=3), Settings(receive=4, transmit=5)]
+        config = Config(devices=devices, period=20, jobs=6)
+        found = numbering.budget_amounts(config)
+        self.assertEqual(found, [2, 3, 4, 5, 6])
+        self.assertEqual(found[numbering.job_budget(2)], 6)
+        found.clear()
+        self.assertEqual(numbering.budget_amounts(config), [2, 3, 4, 5, 6])
 
 
 if __name__ == "__main__":

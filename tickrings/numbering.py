@@ -1,4 +1,4 @@
-"""The numbers of lines, rings and jobs, which all follow from the numbers of the devices."""
+"""The numbers of lines, rings, budgets and jobs, which all follow from the numbers of the devices."""
 
 # The jobs of each device, in the order of their numbers.
 DELIVER = 0
@@ -35,6 +35,14 @@ def is_receive(line):
 def job_budget(many):
     """Return the number of the job budget, behind those of the lines of so many devices."""
     return 2 * many
+
+
+def budget_amounts(config):
+    """Return the list of the full budgets in the order of their numbers."""
+    amounts = []
+    for settings in config.devices:
+        amounts.extend([settings.receive, settings.transmit])
+    return amounts + [config.jobs]
 
 
 def all_jobs(many):

@@ -4,17 +4,10 @@ from tickrings.budgets import Budgets
 from tickrings.device import Device
 from tickrings.jobs import can_work, perform
 from tickrings.lines import Lines, wakes
-from tickrings.numbering import (all_jobs, all_numbers, device_of_line, is_receive, job_budget, receive_number,
-                                 transmit_number)
+from tickrings.numbering import (all_jobs, all_numbers, budget_amounts, device_of_line, is_receive, job_budget,
+                                 receive_number, transmit_number)
 from tickrings.pool import Pool
 from tickrings.work import choice
-
-
-def _amounts(config):
-    amounts = []
-    for settings in config.devices:
-        amounts.extend([settings.receive, settings.transmit])
-    return amounts + [config.jobs]
 
 
 class Runtime:
@@ -30,7 +23,7 @@ class Runtime:
         # The lines and the rings have the same numbers.
         self._numbers = all_numbers(many)
         self.lines = Lines(len(self._numbers))
-        self.budgets = Budgets(_amounts(config))
+        self.budgets = Budgets(budget_amounts(config))
         self.events = []
         self._jobs = all_jobs(many)
         self._job_budget = job_budget(many)
