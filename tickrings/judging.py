@@ -1,4 +1,4 @@
-"""The judge of records. It keeps a plain model of its own and shares nothing with the runtime."""
+"""The judge of records. Its model is plain lists, without the parts of which a runtime is made."""
 
 from tickrings.numbering import (DELIVER, REFILL, all_jobs, all_numbers, budget_amounts, device_of_job,
                                  device_of_line, is_receive, job_budget, kind_of_job, receive_number,
